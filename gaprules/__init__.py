@@ -1,0 +1,1 @@
+"""Two kinds of logs told apart by rules with gaps."""

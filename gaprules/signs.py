@@ -1,0 +1,67 @@
+"""Signs, logs and patterns: what contains what, and the order of strings."""
+
+from gaprules.errors import NotALog
+
+SIGNS = "abc"
+
+
+def require_log(value, signs):
+    """Return the value if it is a string of the first so many signs."""
+    if not isinstance(value, str):
+        raise NotALog(value)
+    known = SIGNS[:signs]
+    for letter in value:
+        if letter not in known:
+            raise NotALog(value)
+    return value
+
+
+def require_sign(value, signs):
+    """Return the value if it is one of the first so many signs."""
+    # The length is asked for, too: Python finds "" and "ab" in "abc".
+    if not isinstance(value, str) or len(value) != 1 or value not in SIGNS[:signs]:
+        raise NotALog(value)
+    return value
+
+
+def positions(log, pattern):
+    """Return where the pattern's signs stand in the log, each as early as possible, or None."""
+    found = []
+    at = 0
+    for sign in pattern:
+        place = log.find(sign, at)
+        if place < 0:
+            return None
+        found.append(place)
+        at = place + 1
+    return tuple(found)
+
+
+def contains(log, pattern):
+    """Return whether the pattern's signs stand in the log in this order."""
+    return positions(log, pattern) is not None
+
+
+def progress_of(log, pattern):
+    """Return how many signs of the pattern are found in the log, taken from the left."""
+    found = 0
+    for sign in log:
+        if found < len(pattern) and pattern[found] == sign:
+            found += 1
+    return found
+
+
+def in_order(strings):
+    """Return the strings by length, then by alphabet, each once."""
+    keyed = sorted({(len(text), text) for text in strings})
+    return tuple([string for _, string in keyed])
+
+
+def least_strings(strings):
+    """Return those of the strings that contain no other one of them, in order."""
+    least = []
+    for string in in_order(strings):
+        # A string contains only earlier ones, and with one of these a least one.
+        if not any([contains(string, smaller) for smaller in least]):
+            least.append(string)
+    return tuple(least)
