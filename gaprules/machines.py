@@ -6,6 +6,7 @@ from gaprules.signs import SIGNS, require_sign
 MOST_SIGNS = 3
 MOST_STATES = 6
 MOST_EDGES = 14
+KINDS = "AB"
 
 
 def is_between(value, low, high):
@@ -92,7 +93,10 @@ class Machine:
 
     def states_after(self, log):
         """Return the states to which the log leads from the starts, ascending."""
-        states = self.starts()
+        return self.states_behind(self.starts(), log)
+
+    def states_behind(self, states, log):
+        """Return the states to which the log leads from the tuple of states, ascending."""
         for sign in log:
             states = self._behind(states, sign)
         return states
@@ -157,3 +161,13 @@ def require_pair(pair):
     one, two = pair
     if one.signs != two.signs:
         raise Unpaired()
+
+
+def machine_of_kind(pair, kind):
+    """Return the pair's machine of this kind."""
+    return pair[KINDS.index(kind)]
+
+
+def other_kind(kind):
+    """Return the kind that is not this one."""
+    return KINDS[1 - KINDS.index(kind)]

@@ -2,34 +2,13 @@ import doctest
 import inspect
 import os
 import unittest
-from itertools import product
 
 from gaprules import machines
 from gaprules.errors import EdgeExists, LimitExceeded, NotALog, Unpaired, UnknownEdge, UnknownState
-from gaprules.machines import Machine, require_pair
+from gaprules.machines import Machine, machine_of_kind, other_kind, require_pair
+from tests.helpers import ProgramCase, look_of, machine_of, strings_up_to
 
 NO_INTEGERS = (True, False, None, "1", "", (), (1,), [], [1], {}, {1: 1})
-
-
-def machine_of(signs, states, edges=(), starts=(), ends=()):
-    machine = Machine(signs, states)
-    for origin, sign, target in edges:
-        machine.add_edge(origin, sign, target)
-    for state in starts:
-        machine.add_start(state)
-    for state in ends:
-        machine.add_end(state)
-    return machine
-
-
-def strings_up_to(length, letters):
-    return ["".join(word) for many in range(length + 1) for word in product(letters, repeat=many)]
-
-
-def look_of(machine):
-    """All that can be seen of a machine, its logs up to length 4 included."""
-    logs = [log for log in strings_up_to(4, "abc"[:machine.signs]) if machine.has_log(log)]
-    return (machine.signs, machine.states, machine.edges(), machine.starts(), machine.ends(), logs)
 
 
 def path_ends(edges, starts, log):
@@ -47,7 +26,7 @@ def full_machine():
     return machine_of(3, 6, edges, (0,), (4,))
 
 
-class MachineCase(unittest.TestCase):
+class MachineCase(ProgramCase):
     def check_answers(self, machine, length=4):
         """Compare all answers about logs with those of a search over paths."""
         edges, starts, ends = machine.edges(), machine.starts(), machine.ends()
@@ -60,11 +39,6 @@ class MachineCase(unittest.TestCase):
                 first = log
         if first is not None or length >= machine.states - 1:
             self.assertEqual(machine.first_log(), first)
-
-    def raised(self, error, call, *arguments, **named):
-        with self.assertRaises(error) as caught:
-            call(*arguments, **named)
-        return caught.exception
 
 
 class CreationTest(MachineCase):
@@ -452,6 +426,12 @@ class LogTest(MachineCase):
             self.assertEqual(machine.states_after("abc"), (3,))
         self.assertEqual(look_of(machine), before)
 
+    def test_states_behind_given_states(self):
+        machine = machine_of(2, 4, "0a1 1a1 1b2 2a3", (0,), (3,))
+        for states in ((), (0,), (1, 2), (0, 1, 2, 3)):
+            for log in strings_up_to(4, "ab"):
+                self.assertEqual(machine.states_behind(states, log), path_ends(machine.edges(), states, log))
+
     def test_arguments_by_name(self):
         machine = machine_of(2, 2, [(0, "a", 1)], (0,), (1,))
         self.assertEqual(machine.states_after(log="a"), (1,))
@@ -474,6 +454,11 @@ class PairTest(MachineCase):
         machine = full_machine()
         self.assertIsNone(require_pair((machine, machine)))
         self.assertIsNone(require_pair((machine, machine.twin())))
+
+    def test_kinds(self):
+        pair = Machine(2, 1), Machine(2, 2)
+        self.assertEqual([machine_of_kind(pair, kind).states for kind in "AB"], [1, 2])
+        self.assertEqual([other_kind(kind) for kind in "AB"], ["B", "A"])
 
     def test_by_name_and_nothing_changes(self):
         one, two = full_machine(), Machine(2, 1)

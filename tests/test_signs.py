@@ -1,13 +1,9 @@
 import unittest
-from itertools import combinations, product
+from itertools import combinations
 
 from gaprules.errors import NotALog
 from gaprules.signs import contains, in_order, least_strings, positions, progress_of, require_log
-
-
-def strings_up_to(length, letters="abc"):
-    """All strings of the letters, by length and then by alphabet."""
-    return ["".join(word) for many in range(length + 1) for word in product(letters, repeat=many)]
+from tests.helpers import strings_up_to
 
 
 def places_by_trial(log, pattern):
