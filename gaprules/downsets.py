@@ -11,46 +11,78 @@ class Downset:
     """The set of the strings that all logs of some chain of so many logs contain."""
 
     def __init__(self, pair, kind, depth):
-        require_pair(pair)
-        # The rests are numbered, 0 is the whole set. A rest's row tells the numbers of the
-        # rests behind each sign; a rest is filled if it holds a string (the empty one then, too).
-        self.rows, self.filled = rests_of(pair, kind, depth)
+        self.rests = Levels(pair).rests_of(kind, depth)
 
     def holds(self, string):
         """Return whether the string is in the set."""
-        return self.filled[self.rest_after(0, string)]
+        return self.rests.has(string)
 
     def is_empty(self):
         """Return whether no string is in the set."""
-        return not self.filled[0]
+        return not self.rests.has("")
 
     def rest_count(self):
         """Return the number of rests, the one that holds no string included."""
-        return len(self.rows)
+        return len(self.rests.rows)
 
     def same(self, string, other):
         """Return whether the rests after the two strings are the same set."""
-        return self.rest_after(0, string) == self.rest_after(0, other)
+        return self.rests.after(0, string) == self.rests.after(0, other)
 
-    def rest_after(self, rest, string):
+
+class Rests:
+    """The rests of a downset, by their numbers; 0 is the whole set."""
+
+    def __init__(self, rows, filled):
+        # A rest's row tells the numbers of the rests behind each sign; a rest is filled if it
+        # holds a string (the empty one then, too).
+        self.rows = rows
+        self.filled = filled
+
+    def after(self, rest, string):
         """Return the number of the rest that the string leaves of the rest of this number."""
         for sign in string:
             rest = self.rows[rest][SIGNS.index(sign)]
         return rest
 
+    def has(self, string):
+        """Return whether the string is in the set."""
+        return self.filled[self.after(0, string)]
 
-def rests_of(pair, kind, depth):
-    """Return the rows and the filled marks of D_kind(depth); raise if these are too many.
 
-    The sets from which it is built are made on the way, so those are asked, too.
-    """
-    if depth == 0:
-        return [[0] * pair[0].signs], [True]
-    rows, filled = rests_of(pair, other_kind(kind), depth - 1)
-    machine = machine_of_kind(pair, kind)
-    first, leads = downwards(machine, leads_within(machine, rows), filled)
-    rows, filled = subset_rows(first, leads)
-    return merged(rows, filled)
+class Levels:
+    """The downsets of a pair of machines as they are; each is built once, when it is asked for."""
+
+    def __init__(self, pair):
+        require_pair(pair)
+        self.machines = pair
+        self.built = {}
+
+    def rests_of(self, kind, depth):
+        """Return the rests of D_kind(depth); raise if these are too many.
+
+        The sets from which it is built are made on the way, so those are asked, too.
+        """
+        key = (kind, depth)
+        if key not in self.built:
+            self.built[key] = self._build(kind, depth)
+        return self.built[key]
+
+    def first_empty(self, kind, most):
+        """Return the first depth from 1 to most at which the set of the kind is empty, or None."""
+        for depth in range(1, most + 1):
+            if not self.rests_of(kind, depth).has(""):
+                return depth
+        return None
+
+    def _build(self, kind, depth):
+        machine = machine_of_kind(self.machines, kind)
+        if depth == 0:
+            return Rests([[0] * machine.signs], [True])
+        inner = self.rests_of(other_kind(kind), depth - 1)
+        first, leads = downwards(machine, leads_within(machine, inner.rows), inner.filled)
+        rows, filled = subset_rows(first, leads)
+        return merged(rows, filled)
 
 
 def leads_within(machine, rows):
@@ -116,7 +148,7 @@ def subset_rows(first, leads):
 
 
 def merged(rows, filled):
-    """Return the rows and marks in which equal rests are one; raise if these are too many."""
+    """Return the rests, of which equal ones are made one; raise if these are too many."""
     # Different masks may leave the same strings: they are one rest until a string tells them
     # apart, and each round takes strings of one sign more.
     classes = filled
@@ -127,7 +159,7 @@ def merged(rows, filled):
             raise LimitExceeded(MOST_RESTS)
         classes = finer(classes, rows)
     kept = [classes.index(name) for name in range(many)]
-    return [[classes[behind] for behind in rows[at]] for at in kept], [filled[at] for at in kept]
+    return Rests([[classes[behind] for behind in rows[at]] for at in kept], [filled[at] for at in kept])
 
 
 def finer(classes, rows):

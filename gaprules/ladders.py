@@ -30,22 +30,48 @@ def ladder_logs(ladder, rounds):
 
 def is_ladder(pair, ladder):
     """Return whether the pieces lead both machines from a start to an end."""
-    one, two = pair
     fits = all([is_loop(piece) for piece in ladder if piece[0] == "loop"])
-    return fits and leads_to_end(one, ladder, 2) and leads_to_end(two, ladder, 3)
+    return fits and ladder_fault(pair, ladder) is None
 
 
 def is_barrier(pair, barrier):
     """Return whether the pairs of states are a barrier."""
     one, two = pair
-    links = links_of(pair)
-    if barrier != tuple(sorted(set(barrier))) or not all([at in links for at in barrier]):
+    known = state_pairs(states_of(one), states_of(two))
+    if barrier != tuple(sorted(set(barrier))) or not all([at in known for at in barrier]):
         return False
-    return (
-        all([start in barrier for start in state_pairs(one.starts(), two.starts())])
-        and all([behind in barrier for at in barrier for behind in links[at]])
-        and not any([end in barrier for end in state_pairs(one.ends(), two.ends())])
-    )
+    return barrier_fault(pair, barrier) is None
+
+
+def ladder_fault(pair, ladder):
+    """Return the first fault of pieces that have the form of a ladder's pieces, or None."""
+    one, two = pair
+    states, others = one.starts(), two.starts()
+    for at, piece in enumerate(ladder):
+        states = states_behind_piece(one, states, piece, 2)
+        others = states_behind_piece(two, others, piece, 3)
+        if not states or not others:
+            return ("piece", at)
+    if not one.holds_end(states):
+        return ("end", "A")
+    if not two.holds_end(others):
+        return ("end", "B")
+    return None
+
+
+def barrier_fault(pair, barrier):
+    """Return the first fault of ascending pairs of states as a barrier, or None."""
+    one, two = pair
+    if not all([start in barrier for start in state_pairs(one.starts(), two.starts())]):
+        return ("start",)
+    links = links_of(pair)
+    for at in barrier:
+        if not all([behind in barrier for behind in links[at]]):
+            return ("step", at)
+    for state, other in barrier:
+        if one.holds_end((state,)) and two.holds_end((other,)):
+            return ("end", (state, other))
+    return None
 
 
 def pieces_from_starts(pair):
@@ -177,20 +203,11 @@ def is_loop(piece):
     return signs != "" and signs == "".join(sorted(set(signs)))
 
 
-def leads_to_end(machine, ladder, side):
-    """Return whether the pieces lead the machine from a start to an end.
+def states_behind_piece(machine, states, piece, side):
+    """Return the states in which the machine can be behind the piece.
 
     side is the index in a loop of this machine's triple.
     """
-    states = machine.starts()
-    for piece in ladder:
-        states = states_behind_piece(machine, states, piece, side)
-    ends = machine.ends()
-    return any([state in ends for state in states])
-
-
-def states_behind_piece(machine, states, piece, side):
-    """Return the states in which the machine can be behind the piece."""
     if piece[0] == "sign":
         return machine.states_behind(states, piece[1])
     before, turn, behind = piece[side]

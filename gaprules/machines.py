@@ -101,9 +101,13 @@ class Machine:
             states = self._behind(states, sign)
         return states
 
+    def holds_end(self, states):
+        """Return whether one of the states is an end."""
+        return any([state in self._ends for state in states])
+
     def has_log(self, log):
         """Return whether the log leads from a start to an end."""
-        return self._holds_end(self.states_after(log))
+        return self.holds_end(self.states_after(log))
 
     def first_log(self):
         """Return the machine's first log by length and then by alphabet, or None."""
@@ -111,7 +115,7 @@ class Machine:
         seen = {self.starts(): True}
         while level:
             for log, states in level:
-                if self._holds_end(states):
+                if self.holds_end(states):
                     return log
             level = self._next_level(level, seen)
         return None
@@ -133,9 +137,6 @@ class Machine:
             target for origin, letter, target in self._edges if letter == sign and origin in states
         }))
 
-    def _holds_end(self, states):
-        return any([state in self._ends for state in states])
-
     def _require_state(self, state):
         if not is_between(state, 0, self.states - 1):
             raise UnknownState(state)
@@ -154,6 +155,11 @@ def take_out(states, state):
     if there:
         del states[state]
     return there
+
+
+def is_kind(value):
+    """Return whether the value is "A" or "B"."""
+    return value == "A" or value == "B"
 
 
 def require_pair(pair):

@@ -7,13 +7,14 @@ SIGNS = "abc"
 
 def require_log(value, signs):
     """Return the value if it is a string of the first so many signs."""
-    if not isinstance(value, str):
+    if not is_log(value, signs):
         raise NotALog(value)
-    known = SIGNS[:signs]
-    for letter in value:
-        if letter not in known:
-            raise NotALog(value)
     return value
+
+
+def is_log(value, signs):
+    """Return whether the value is a string of the first so many signs."""
+    return isinstance(value, str) and all([letter in SIGNS[:signs] for letter in value])
 
 
 def require_sign(value, signs):
