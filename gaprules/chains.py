@@ -87,7 +87,7 @@ class LogWalk:
         """Return the nodes to which the sign leads from the node."""
         state, found, rest = node
         later = self.rests.after(rest, sign)
-        # From a rest that holds no string none leads to a goal.
+        # No string leads from a rest without strings to a goal.
         if not self.rests.filled[later]:
             return []
         if self.string[found:found + 1] == sign:
@@ -96,5 +96,5 @@ class LogWalk:
 
     def is_goal(self, node):
         """Return whether a string that leads to the node is such a log."""
-        state, found, rest = node
-        return found == len(self.string) and self.rests.filled[rest] and self.machine.holds_end((state,))
+        state, found, _ = node
+        return found == len(self.string) and self.machine.holds_end((state,))

@@ -2,17 +2,12 @@
 
 from gaprules.errors import EdgeExists, LimitExceeded, Unpaired, UnknownEdge, UnknownState
 from gaprules.signs import SIGNS, require_sign
+from gaprules.values import is_between
 
 MOST_SIGNS = 3
 MOST_STATES = 6
 MOST_EDGES = 14
 KINDS = "AB"
-
-
-def is_between(value, low, high):
-    """Return whether the value is an integer from low to high."""
-    # Python counts True and False as integers, the document does not.
-    return isinstance(value, int) and not isinstance(value, bool) and low <= value <= high
 
 
 class Machine:
@@ -101,6 +96,17 @@ class Machine:
             states = self._behind(states, sign)
         return states
 
+    def states_beyond(self, states):
+        """Return the states to which strings lead from the tuple of states, itself included, ascending."""
+        found = list(states)
+        at = 0
+        while at < len(found):
+            for origin, _, target in self.edges():
+                if origin == found[at] and target not in found:
+                    found.append(target)
+            at += 1
+        return tuple(sorted(found))
+
     def holds_end(self, states):
         """Return whether one of the states is an end."""
         return any([state in self._ends for state in states])
@@ -167,6 +173,12 @@ def require_pair(pair):
     one, two = pair
     if one.signs != two.signs:
         raise Unpaired()
+
+
+def twins_of(pair):
+    """Return a pair of equal machines that live by themselves."""
+    one, two = pair
+    return (one.twin(), two.twin())
 
 
 def machine_of_kind(pair, kind):

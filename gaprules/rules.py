@@ -3,7 +3,8 @@
 from gaprules.errors import InvalidRules, LimitExceeded
 from gaprules.machines import KINDS, is_kind, require_pair
 from gaprules.progresses import Progresses
-from gaprules.signs import contains, is_log
+from gaprules.signs import contains, is_short_log
+from gaprules.values import is_tuple_of
 from gaprules.walks import first_string, letters_of, meets_more, targets_of
 
 MOST_BLOCKS = 11
@@ -59,7 +60,7 @@ def place_of_fault(value, signs):
         if not is_block(block) or block[0] == before:
             return (at,)
         for index, pattern in enumerate(block[1]):
-            if not is_pattern(pattern, signs):
+            if not is_short_log(pattern, signs, MOST_PATTERN_SIGNS):
                 return (at, index)
         before = block[0]
     return () if before == last else None
@@ -68,16 +69,6 @@ def place_of_fault(value, signs):
 def is_block(value):
     """Return whether the value is an answer with a tuple of as many elements as patterns may be."""
     return is_tuple_of(value, 2, 2) and is_kind(value[0]) and is_tuple_of(value[1], 1, MOST_PATTERNS)
-
-
-def is_pattern(value, signs):
-    """Return whether the value is a pattern over the first so many signs."""
-    return is_log(value, signs) and len(value) <= MOST_PATTERN_SIGNS
-
-
-def is_tuple_of(value, least, most):
-    """Return whether the value is a tuple of at least and at most so many elements."""
-    return isinstance(value, tuple) and least <= len(value) <= most
 
 
 class RulesWalk:

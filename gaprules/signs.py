@@ -17,12 +17,21 @@ def is_log(value, signs):
     return isinstance(value, str) and all([letter in SIGNS[:signs] for letter in value])
 
 
+def is_short_log(value, signs, most):
+    """Return whether the value is a string of at most so many of these signs."""
+    return is_log(value, signs) and len(value) <= most
+
+
 def require_sign(value, signs):
     """Return the value if it is one of the first so many signs."""
-    # The length is asked for, too: Python finds "" and "ab" in "abc".
-    if not isinstance(value, str) or len(value) != 1 or value not in SIGNS[:signs]:
+    if not is_sign(value, signs):
         raise NotALog(value)
     return value
+
+
+def is_sign(value, signs):
+    """Return whether the value is one of the first so many signs."""
+    return is_log(value, signs) and len(value) == 1
 
 
 def positions(log, pattern):
