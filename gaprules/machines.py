@@ -97,7 +97,7 @@ class Machine:
         return states
 
     def states_beyond(self, states):
-        """Return the states to which strings lead from the tuple of states, itself included, ascending."""
+        """Return the states to which strings lead from the states, themselves included, ascending."""
         found = list(states)
         at = 0
         while at < len(found):

@@ -524,13 +524,13 @@ class FormTest(FaultCase):
     def test_other_values(self):
         pair = example_pair()
         nested = ()
-        for _ in range(14):
-            nested = (nested, [nested], {"a": nested})[:1]
+        for depth in range(14):
+            nested = ((nested,), [nested], {"a": nested})[depth % 3]
         for value in VALUES + (nested, "x" * 5000, ("a",) * 15000, list(range(1000)), ("shown", "bounded", ())):
             self.refused(pair, value)
             for word in ("shown", "broken"):
                 self.refused(pair, (word, value))
-                self.refused(pair, (word, value, value)) if value != BOUNDED else None
+                self.refused(pair, (word, value, value))
                 self.refused(pair, (word, BOUNDED, ((), (value,))))
 
     def test_each_part_of_each_form_exchanged(self):
